@@ -1,0 +1,1 @@
+"""Leastlooks: how many hidden bits a question must look at."""

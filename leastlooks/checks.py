@@ -1,0 +1,34 @@
+"""What the functions of this package ask of the values that they are passed."""
+
+from leastlooks.errors import BadBit, BadCount
+
+MOST = 6
+
+
+def is_whole(value):
+    """Whether a value is an integer, which True and False are not."""
+    return isinstance(value, int) and not isinstance(value, bool)
+
+
+def is_position(value, many):
+    """Whether a value is one of so many positions."""
+    return is_whole(value) and 0 <= value < many
+
+
+def is_block(value, many):
+    """Whether a value is a list, or a tuple, of different ones of so many positions."""
+    if not isinstance(value, (list, tuple)):
+        return False
+    return all([is_position(item, many) for item in value]) and len(set(value)) == len(value)
+
+
+def check_count(many, most=MOST):
+    """Raise BadCount unless a value is an integer from 0 to the greatest one allowed."""
+    if not is_position(many, most + 1):
+        raise BadCount(many)
+
+
+def check_bit(bit):
+    """Raise BadBit unless a value is the integer 0 or 1."""
+    if not is_position(bit, 2):
+        raise BadBit(bit)
