@@ -1,6 +1,6 @@
 """What the functions of this package ask of the values that they are passed."""
 
-from leastlooks.errors import BadBit, BadCount
+from leastlooks.errors import BadBit, BadBlock, BadCount
 
 MOST = 6
 
@@ -32,3 +32,9 @@ def check_bit(bit):
     """Raise BadBit unless a value is the integer 0 or 1."""
     if not is_position(bit, 2):
         raise BadBit(bit)
+
+
+def check_block(block, many):
+    """Raise BadBlock unless a value is a list of different ones of so many positions."""
+    if not is_block(block, many):
+        raise BadBlock(block)

@@ -1,7 +1,7 @@
 """Inputs, whose bits are all known, and patterns, in which some may be unknown."""
 
-from leastlooks.checks import MOST, check_bit, check_count, is_block, is_position
-from leastlooks.errors import BadBlock, BadInput, BadPattern, BadPosition, UnlikeSizes
+from leastlooks.checks import MOST, check_bit, check_block, check_count, is_position
+from leastlooks.errors import BadInput, BadPattern, BadPosition, UnlikeSizes
 
 
 def is_input(value):
@@ -93,6 +93,31 @@ def part(text, block):
     return "".join([bit if at in block else "-" for at, bit in enumerate(text)])
 
 
+def unknown(pattern):
+    """The ascending list of the unknown positions."""
+    return [at for at, letter in enumerate(pattern) if letter == "-"]
+
+
+def branches(pattern, position):
+    """The two patterns in which a position has the bit 0, and the bit 1."""
+    return _replaced(pattern, position, "0"), _replaced(pattern, position, "1")
+
+
+def fitted_by(text):
+    """The ascending list of the patterns that an input fits."""
+    return _words(["-" + bit for bit in text])
+
+
+def ones(text):
+    """The block of the positions at which an input has the bit 1."""
+    return tuple([at for at, bit in enumerate(text) if bit == "1"])
+
+
+def all_blocks(many):
+    """The ascending list of all blocks of so many positions."""
+    return sorted([ones(text) for text in inputs(many)])
+
+
 def check_input_of(text, many):
     """Raise BadInput unless a value is an input of so many positions."""
     if not (is_input(text) and len(text) == many):
@@ -146,5 +171,4 @@ def _check_position(pattern, position):
 def _check_block(text, block):
     if not is_input(text):
         raise BadInput(text)
-    if not is_block(block, len(text)):
-        raise BadBlock(block)
+    check_block(block, len(text))
