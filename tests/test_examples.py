@@ -4,10 +4,23 @@ import doctest
 import os
 import unittest
 
-from leastlooks.errors import BadFormula
+from leastlooks.bounds import bounds, hub, most_rounds, numbers, rounds_tree, union_settles
+from leastlooks.costs import (
+    is_total_paper, is_worst_paper, total_cost, total_paper, tree_total, tree_worst, worst_cost)
+from leastlooks.errors import BadFormula, BadText, NotAnswers
 from leastlooks.formulas import Formula, formula_of
+from leastlooks.looks import best_tree, is_play, looks, looks_left, needs_all, play, strategies
 from leastlooks.patterns import common, differ, fits, fitting, inputs, known, meet, part, patterns, turned, with_bit
 from leastlooks.questions import Question
+from leastlooks.settling import (
+    hardest_inputs, is_cover, lean_patterns, least_settling, narrow_cover, part_ways, settling_numbers, settling_size)
+from leastlooks.straight import best_sum, fraction, is_best_sum, is_fraction
+from leastlooks.sums import balance, balances, degree, odd_products, products, question_of, worth
+from leastlooks.trees import (
+    depth, leaves, looked, read_tree, tree_answer, tree_question, tree_text, trimmed, wrong_input)
+from leastlooks.turning import (
+    apart_blocks, block_numbers, is_sensitive, lean_blocks, meets_all, most_sensitive, sensitive_positions,
+    sensitivity_numbers)
 from tests.samples import same
 
 README = os.path.join(os.path.dirname(os.path.dirname(os.path.abspath(__file__))), "README.md")
@@ -51,6 +64,87 @@ class Examples(unittest.TestCase):
             with self.assertRaises(BadFormula) as caught:
                 Formula(text)
             self.assertEqual(caught.exception.at, at)
+
+    def test_settling(self):
+        two = Question.at_least(3, 2)
+        self.check([settling_size(two, "000"), least_settling(two, "000"), least_settling(two, "011"),
+                    lean_patterns(two, 1), settling_numbers(two)],
+                   [2, ['-00', '0-0', '00-'], ['-11'], ['-11', '1-1', '11-'], (2, 2)])
+        either = Question.at_least(3, 1)
+        self.check([settling_numbers(either), hardest_inputs(either, 0), lean_patterns(either, 1),
+                    part_ways(two, "00-", "-11")],
+                   [(3, 1), ['000'], ['--1', '-1-', '1--'], 1])
+        self.check([len(narrow_cover(either, 1)), is_cover(either, 1, 1, ["--1", "-1-", "1--"]),
+                    is_cover(either, 1, 1, ["--1", "-1-"])],
+                   [3, True, False])
+
+    def test_turning(self):
+        two = Question.at_least(3, 2)
+        self.check([sensitive_positions(two, "000"), lean_blocks(two, "000"), sensitive_positions(two, "001"),
+                    apart_blocks(two, "001")],
+                   [[], [(0, 1), (0, 2), (1, 2)], [0, 1], [(0,), (1,)]])
+        self.check([sensitivity_numbers(two), block_numbers(two), most_sensitive(two),
+                    is_sensitive(two, "000", [2, 1]), meets_all(two, "000", [0, 1])],
+                   [(2, 2), (2, 2), '001', True, True])
+        sides = Question.of(4, ["0000", "0011", "1100", "1111"])
+        self.check([apart_blocks(sides, "0100"), sensitivity_numbers(sides), block_numbers(sides)],
+                   [[(0,), (1,)], (2, 4), (2, 4)])
+
+    def test_sums(self):
+        two = Question.at_least(3, 2)
+        self.check([products(two), degree(two), odd_products(two), worth(products(two), "111")],
+                   [{(0, 1): 1, (0, 1, 2): -2, (0, 2): 1, (1, 2): 1}, 3, [(0, 1), (0, 2), (1, 2)], 1])
+        self.check([balances(two), balance(two, [1]), products(Question("10")), products(Question("0"))],
+                   [{(0,): 4, (0, 1, 2): -4, (1,): 4, (2,): 4}, 4, {(): 1, (0,): -1}, {}])
+        self.check(str(question_of(2, {(0,): 1, (1,): 1, (0, 1): -1})), '0111')
+        with self.assertRaises(NotAnswers) as caught:
+            question_of(2, {(0,): 1, (1,): 1})
+        self.check(caught.exception.text, '11')
+
+    def test_trees(self):
+        tree = (0, (1, 0, 0), (1, (0, 0, 1), 1))
+        self.check([looked(tree, "10"), tree_answer(tree, "10"), depth(tree), leaves(2, tree)],
+                   [[0, 1, 0], 1, 3, [('00', 0), ('01', 0), ('10', 1), ('11', 1)]])
+        self.check([trimmed(2, tree), str(tree_question(2, tree)), wrong_input(Question("0001"), tree),
+                    tree_text((0, 0, (1, 0, 1))), read_tree("(0 0 (1 0 1))")],
+                   [(0, 0, 1), '0011', '10', '(0 0 (1 0 1))', (0, 0, (1, 0, 1))])
+        with self.assertRaises(BadText) as caught:
+            read_tree("(0 0 2)")
+        self.check(caught.exception.at, 5)
+
+    def test_looks(self):
+        two = Question.at_least(3, 2)
+        self.check([looks(two), looks_left(two, "0--"), best_tree(two), needs_all(two)],
+                   [3, 2, (0, (1, 0, (2, 0, 1)), (1, (2, 0, 1), 1)), True])
+        chosen = Question("01010011")
+        self.check([looks(chosen), strategies(chosen, "---"), strategies(chosen, "---", spare=1),
+                    strategies(chosen, "0--"), best_tree(chosen)],
+                   [2, [0], [0, 1, 2], [2], (0, (2, 0, 1), (1, 0, 1))])
+        self.check([is_play(two, play(two), 3), is_play(two, {"---": 1}, 1), is_play(two, {"---": 2}, 1),
+                    is_play(two, {"1--": 1, "---": 2, "-1-": 1, "--0": 1}, 2)],
+                   [True, True, False, True])
+
+    def test_bounds(self):
+        two = Question.at_least(3, 2)
+        self.check([numbers(two), bounds(two)[3:6], hub(two), union_settles(two, "001")],
+                   [(3, (2, 2), (2, 2), (2, 2), 3), [('c D', 2, 3), ('D cc', 3, 4), ('D cb', 3, 4)],
+                    ((0, 1, 2), '001', [0, 1]), ([(0,), (1,)], '00-')])
+        self.check([rounds_tree(two, 1), most_rounds(two, 1)], [(1, (2, 0, (0, 0, 1)), (2, (0, 0, 1), 1)), 2])
+
+    def test_costs(self):
+        two = Question.at_least(3, 2)
+        whole = (0, (1, 0, (2, 0, 1)), (1, (2, 0, 1), 1))
+        self.check([worst_cost(two, prices=[1, 1, 5]), total_cost(two), tree_worst(whole, 3, prices=[1, 1, 5]),
+                    tree_total(whole, 3, weights=[1, 0, 0, 0, 0, 0, 0, 1])],
+                   [7, 20, 7, 4])
+        self.check([is_worst_paper(two, {"---": 2, "--0": 1}, 2), is_total_paper(two, total_paper(two), 20)],
+                   [False, True])
+
+    def test_straight(self):
+        self.check([fraction(6, -4), is_fraction((2, 4)), best_sum([[1, -1]], [2], [0, 1]),
+                    best_sum([[2, 1], [1, 3]], [4, 5], [1, 1])],
+                   [(-3, 2), False, None, ((13, 5), [(7, 5), (6, 5)], [(2, 5), (1, 5)])])
+        self.check(is_best_sum([[2, 1], [1, 3]], [4, 5], [1, 1], ((13, 5), [(7, 5), (6, 5)], [(2, 5), (1, 5)])), True)
 
     def test_the_readme(self):
         self.assertEqual(doctest.testfile(README, module_relative=False).failed, 0)

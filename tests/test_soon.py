@@ -1,0 +1,102 @@
+"""Everything ends soon, for questions of 6 positions too, asked one after the other."""
+
+import time
+import unittest
+
+from leastlooks import bounds, costs, looks, settling, straight, sums, trees, turning
+from leastlooks.questions import Question
+from tests.plain import SIX
+
+TEXT = "010011"
+PATTERNS = ["------", "0-----", "--1-0-"]
+
+
+def ask_settling(question):
+    settling.settling_size(question, TEXT)
+    settling.least_settling(question, TEXT)
+    settling.settling_numbers(question)
+    for answer in (0, 1):
+        settling.lean_patterns(question, answer)
+        settling.hardest_inputs(question, answer)
+        settling.is_cover(question, answer, 6, settling.narrow_cover(question, answer))
+    if 0 < len(question) < 64:
+        settling.part_ways(question, list(question)[0], list(~question)[0])
+
+
+def ask_turning(question):
+    for deed in (turning.sensitive_positions, turning.lean_blocks, turning.apart_blocks):
+        deed(question, TEXT)
+    for deed in (turning.is_sensitive, turning.meets_all):
+        deed(question, TEXT, [0, 5])
+    for deed in (turning.sensitivity_numbers, turning.block_numbers, turning.most_sensitive):
+        deed(question)
+
+
+def ask_sums(question):
+    sums.worth(sums.products(question), TEXT)
+    sums.question_of(6, sums.products(question))
+    sums.balance(question, [0, 5])
+    for deed in (sums.degree, sums.odd_products, sums.odd_degree, sums.balances):
+        deed(question)
+
+
+def ask_trees(question):
+    tree = looks.best_tree(question)
+    for deed in (trees.is_tree, trees.leaves, trees.tree_question, trees.trimmed):
+        deed(6, tree)
+    for deed in (trees.looked, trees.tree_answer):
+        deed(tree, TEXT)
+    trees.depth(tree)
+    trees.wrong_input(question, tree)
+    trees.read_tree(trees.tree_text(tree))
+
+
+def ask_looks(question):
+    looks.looks(question)
+    looks.needs_all(question)
+    looks.best_tree(question)
+    looks.is_play(question, looks.play(question), 3)
+    for pattern in PATTERNS:
+        looks.looks_left(question, pattern)
+        looks.strategies(question, pattern, spare=1)
+
+
+def ask_bounds(question):
+    for deed in (bounds.numbers, bounds.bounds, bounds.hub):
+        deed(question)
+    for answer in (0, 1):
+        bounds.rounds_tree(question, answer)
+        bounds.most_rounds(question, answer)
+    bounds.union_settles(question, TEXT)
+
+
+def ask_costs(question):
+    prices, weights = [3, 1, 4, 1, 5, 9], [10 ** 39 - place for place in range(64)]
+    costs.worst_cost(question, prices=prices)
+    costs.total_cost(question, prices=prices, weights=weights)
+    costs.tree_worst(costs.worst_tree(question, prices=prices), 6, prices=prices)
+    costs.tree_total(costs.total_tree(question, weights=weights), 6, prices=prices, weights=weights)
+    costs.is_worst_paper(question, costs.worst_paper(question, prices=prices), 9, prices=prices)
+    costs.is_total_paper(question, costs.total_paper(question, weights=weights), 9, weights=weights)
+
+
+class Soon(unittest.TestCase):
+    def check(self, deed, rows):
+        begun = time.monotonic()
+        for row in rows:
+            deed(row)
+        # Much more than it takes, and much less than a search of another kind would take.
+        self.assertLess(time.monotonic() - begun, 30)
+
+    def test_questions_of_six_positions(self):
+        questions = [Question(table) for table in SIX]
+        for deed in (ask_settling, ask_turning, ask_sums, ask_trees, ask_looks, ask_bounds, ask_costs):
+            self.check(deed, questions)
+
+    def test_sums_of_eight_rows_and_gains(self):
+        # Turns at the first column go past many corners of this box, as V. Klee and G. J. Minty found.
+        rows = [[2 * 100 ** (at - place) if place < at else int(place == at) for place in range(8)] for at in range(8)]
+        limits, gains = [10 ** (4 * at) for at in range(8)], [10 ** (2 * (7 - place)) for place in range(8)]
+        large = [[(7 ** (8 * at + place) * 10 ** 30) // 3 for place in range(8)] for at in range(8)]
+        self.check(lambda one: straight.is_best_sum(*one, straight.best_sum(*one)),
+                   [(rows, limits, gains), (rows[::-1], limits[::-1], gains[::-1]), (large, [10 ** 39] * 8, [1] * 8)])
