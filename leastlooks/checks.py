@@ -1,6 +1,6 @@
 """What the functions of this package ask of the values that they are passed."""
 
-from leastlooks.errors import BadBit, BadBlock, BadCount
+from leastlooks.errors import BadBit, BadBlock, BadCount, BadOrder
 
 MOST = 6
 
@@ -22,6 +22,13 @@ def is_block(value, many):
     return all([is_position(item, many) for item in value]) and len(set(value)) == len(value)
 
 
+def are_amounts(value, count):
+    """Whether a value is a list, or a tuple, of so many integers of at least 0."""
+    if not isinstance(value, (list, tuple)) or len(value) != count:
+        return False
+    return all([is_whole(item) and item >= 0 for item in value])
+
+
 def check_count(many, most=MOST):
     """Raise BadCount unless a value is an integer from 0 to the greatest one allowed."""
     if not is_position(many, most + 1):
@@ -38,3 +45,9 @@ def check_block(block, many):
     """Raise BadBlock unless a value is a list of different ones of so many positions."""
     if not is_block(block, many):
         raise BadBlock(block)
+
+
+def check_order(order, many):
+    """Raise BadOrder unless a value is a list of all of so many positions, each once."""
+    if not (is_block(order, many) and len(order) == many):
+        raise BadOrder(order)

@@ -1,6 +1,6 @@
 """Least costs when looks have prices and inputs have weights."""
 
-from leastlooks.checks import check_count, is_whole
+from leastlooks.checks import are_amounts, check_count
 from leastlooks.errors import BadChances, BadPrices
 from leastlooks.looks import is_paper, least_cost, least_paper, least_tree
 from leastlooks.patterns import branches, inputs, patterns
@@ -79,7 +79,7 @@ def _prices(prices, many):
     """The list of the prices."""
     if prices is None:
         return [1] * many
-    if not _are_amounts(prices, many):
+    if not are_amounts(prices, many):
         raise BadPrices(prices)
     return list(prices)
 
@@ -89,16 +89,9 @@ def _weights(weights, many):
     count = len(inputs(many))
     if weights is None:
         return [1] * count
-    if not _are_amounts(weights, count):
+    if not are_amounts(weights, count):
         raise BadChances(weights)
     return list(weights)
-
-
-def _are_amounts(value, count):
-    """Whether a value is a list of so many integers of at least 0."""
-    if not isinstance(value, (list, tuple)) or len(value) != count:
-        return False
-    return all([is_whole(item) and item >= 0 for item in value])
 
 
 def _pattern_weights(many, weights):

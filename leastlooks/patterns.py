@@ -118,6 +118,14 @@ def all_blocks(many):
     return sorted([ones(text) for text in inputs(many)])
 
 
+def all_orders(many):
+    """The ascending list of all orders of so many positions."""
+    orders = [[]]
+    for _ in range(many):
+        orders = [order + [position] for order in orders for position in range(many) if position not in order]
+    return orders
+
+
 def check_input_of(text, many):
     """Raise BadInput unless a value is an input of so many positions."""
     if not (is_input(text) and len(text) == many):

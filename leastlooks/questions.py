@@ -1,7 +1,7 @@
 """Questions, which give each input an answer."""
 
-from leastlooks.checks import MOST, check_bit, check_count, is_block, is_position
-from leastlooks.errors import BadOrder, BadPosition, BadTable, TooMany, UnlikeSizes
+from leastlooks.checks import MOST, check_bit, check_count, check_order, is_position
+from leastlooks.errors import BadPosition, BadTable, TooMany, UnlikeSizes
 from leastlooks.patterns import check_input_of, check_pattern_of, fitting, inputs, turned, with_bit
 
 # The length of a table, by the number of positions.
@@ -75,8 +75,7 @@ class Question:
 
     def reordered(self, order):
         """The question whose bit at each index k is the bit of this one at order[k]."""
-        if not (is_block(order, self._many) and len(order) == self._many):
-            raise BadOrder(order)
+        check_order(order, self._many)
         places = [order.index(position) for position in range(self._many)]
         return self._taken_from(["".join([text[at] for at in places]) for text in inputs(self._many)])
 

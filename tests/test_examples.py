@@ -9,13 +9,17 @@ from leastlooks.costs import (
     is_total_paper, is_worst_paper, total_cost, total_paper, tree_total, tree_worst, worst_cost)
 from leastlooks.errors import BadFormula, BadText, NotAnswers
 from leastlooks.formulas import Formula, formula_of
+from leastlooks.inside import inside, inside_degree, inside_looks
+from leastlooks.lies import hard_bit, lie_looks, open_inputs, told_answer
 from leastlooks.looks import best_tree, is_play, looks, looks_left, needs_all, play, strategies
+from leastlooks.mixed import hard_weights, loose_blocks, mixed_looks, mixture_means, weights_mean
 from leastlooks.patterns import common, differ, fits, fitting, inputs, known, meet, part, patterns, turned, with_bit
 from leastlooks.questions import Question
 from leastlooks.settling import (
     hardest_inputs, is_cover, lean_patterns, least_settling, narrow_cover, part_ways, settling_numbers, settling_size)
 from leastlooks.straight import best_sum, fraction, is_best_sum, is_fraction
 from leastlooks.sums import balance, balances, degree, odd_products, products, question_of, worth
+from leastlooks.symmetry import full_prime, keeping_orders, signed_sum
 from leastlooks.trees import (
     depth, leaves, looked, read_tree, tree_answer, tree_question, tree_text, trimmed, wrong_input)
 from leastlooks.turning import (
@@ -145,6 +149,36 @@ class Examples(unittest.TestCase):
                     best_sum([[2, 1], [1, 3]], [4, 5], [1, 1])],
                    [(-3, 2), False, None, ((13, 5), [(7, 5), (6, 5)], [(2, 5), (1, 5)])])
         self.check(is_best_sum([[2, 1], [1, 3]], [4, 5], [1, 1], ((13, 5), [(7, 5), (6, 5)], [(2, 5), (1, 5)])), True)
+
+    def test_mixed(self):
+        two = Question.at_least(3, 2)
+        whole = (0, (1, 0, (2, 0, 1)), (1, (2, 0, 1), 1))
+        self.check([mixed_looks(two), weights_mean(two, [0, 1, 1, 1, 1, 1, 1, 0]),
+                    mixture_means(two, [(1, whole)])[:3], loose_blocks(two, "000")[0]],
+                   [(8, 3), (8, 3), [(2, 1), (2, 1), (3, 1)], (3, 2)])
+        self.check(weights_mean(two, hard_weights(two)), (8, 3))
+
+    def test_lies(self):
+        bit = Question("01")
+        self.check([lie_looks(bit, 1), lie_looks(bit, 2), lie_looks(bit, 1, [(0, 1)]), hard_bit(bit, 1, [(0, 1)], 0),
+                    told_answer(bit, 1, [(0, 1), (0, 1)])],
+                   [3, 5, 2, 0, 1])
+        self.check(open_inputs(2, 1, [(0, 1), (1, 0)]), ['00', '10', '11'])
+
+    def test_inside(self):
+        bit = Question("01")
+        two_in = [Question("0111"), bit]
+        self.check([str(inside(Question("0001"), two_in)), inside_looks(Question("0001"), two_in),
+                    inside_degree(Question("0001"), two_in)],
+                   ['00010101', 3, 3])
+        self.check([str(inside(Question("0110"), [Question("1"), bit])),
+                    inside_looks(Question("0110"), [Question("1"), bit])],
+                   ['10', 1])
+
+    def test_symmetry(self):
+        two = Question.at_least(3, 2)
+        self.check([len(keeping_orders(two)), signed_sum(two), full_prime(two), full_prime(Question.parity(2))],
+                   [6, 2, 3, None])
 
     def test_the_readme(self):
         self.assertEqual(doctest.testfile(README, module_relative=False).failed, 0)

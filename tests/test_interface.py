@@ -31,6 +31,13 @@ FUNCTIONS = {
         tree_worst(tree, many, *, prices=None) tree_total(tree, many, *, prices=None, weights=None)""",
     "straight": """fraction(top, bottom) is_fraction(value) best_sum(rows, limits, gains)
         is_best_sum(rows, limits, gains, value)""",
+    "mixed": """mixture_means(question, value) weights_mean(question, weights) mixed_looks(question) mixture(question)
+        hard_weights(question) loose_blocks(question, text)""",
+    "lies": """open_inputs(many, lies, told) told_answer(question, lies, told) lie_looks(question, lies, told=())
+        next_looks(question, lies, told=()) hard_bit(question, lies, told, position)""",
+    "inside": """inside(outer, inners) inside_looks(outer, inners) inside_degree(outer, inners)
+        inside_tree(outer, inners)""",
+    "symmetry": "keeping_orders(question) signed_sum(question) full_prime(question)",
 }
 METHODS = {
     ("questions", "Question"): """settled(self, pattern) restricted(self, pattern) turned_at(self, block)

@@ -3,9 +3,12 @@
 import time
 import unittest
 
-from leastlooks import bounds, costs, looks, settling, straight, sums, trees, turning
+from leastlooks import (
+    bounds, costs, inside, lies, looks, mixed, settling, straight, sums, symmetry, trees, turning)
+from leastlooks.errors import TooMany
 from leastlooks.questions import Question
 from tests.plain import SIX
+from tests.samples import raised
 
 TEXT = "010011"
 PATTERNS = ["------", "0-----", "--1-0-"]
@@ -80,6 +83,34 @@ def ask_costs(question):
     costs.is_total_paper(question, costs.total_paper(question, weights=weights), 9, weights=weights)
 
 
+def ask_mixed(question):
+    tree = looks.best_tree(question)
+    mixed.mixture_means(question, [(10 ** 39 - place, tree) for place in range(4)])
+    mixed.weights_mean(question, [10 ** 39 - place for place in range(64)])
+    for text in ("000000", TEXT, "111111"):
+        mixed.loose_blocks(question, text)
+
+
+def ask_inside(question):
+    for inners in ([Question("01")] * 6, [Question("0")] * 5 + [question]):
+        for deed in (inside.inside, inside.inside_looks, inside.inside_degree, inside.inside_tree):
+            deed(question, inners)
+            deed(Question("0001"), [question, Question("1")])
+
+
+def ask_symmetry(question):
+    for deed in (symmetry.keeping_orders, symmetry.signed_sum, symmetry.full_prime):
+        deed(question)
+
+
+def ask_few(question):
+    """What is told only of questions of few positions ends soon, too, by an error."""
+    for deed in (mixed.mixed_looks, mixed.mixture, mixed.hard_weights):
+        assert raised(deed, question) == (TooMany, (6,))
+    for deed in (lies.told_answer, lies.lie_looks, lies.next_looks):
+        assert raised(deed, question, 2, [(5, 1)] * 9) == (TooMany, (6,))
+
+
 class Soon(unittest.TestCase):
     def check(self, deed, rows):
         begun = time.monotonic()
@@ -90,8 +121,13 @@ class Soon(unittest.TestCase):
 
     def test_questions_of_six_positions(self):
         questions = [Question(table) for table in SIX]
-        for deed in (ask_settling, ask_turning, ask_sums, ask_trees, ask_looks, ask_bounds, ask_costs):
+        for deed in (ask_settling, ask_turning, ask_sums, ask_trees, ask_looks, ask_bounds, ask_costs, ask_mixed,
+                     ask_inside, ask_symmetry, ask_few):
             self.check(deed, questions)
+
+    def test_many_lies(self):
+        tables = ["01101001", "00010111", "01010011", "01111110"]
+        self.check(lambda table: lies.next_looks(Question(table), 2, [(0, 1), (1, 0)] * 2), tables * 5)
 
     def test_sums_of_eight_rows_and_gains(self):
         # Turns at the first column go past many corners of this box, as V. Klee and G. J. Minty found.
