@@ -45,7 +45,7 @@ def strategies(question, pattern, *, spare=0):
     """The ascending list of the positions to look at next with at most so many looks more than needed in all."""
     rest = question.restricted(pattern)
     check_count(spare)
-    steps = _best_steps(rest, _one_more)
+    steps = next_steps(rest)
     whole = "-" * rest.many
     most, best = steps[whole]
     if best is None:
@@ -53,6 +53,14 @@ def strategies(question, pattern, *, spare=0):
     # The positions of the rest are the unknown ones of the pattern, in the same order.
     costs = [_cost(steps, whole, at, _one_more) for at in range(rest.many)]
     return [position for position, cost in zip(unknown(pattern), costs) if cost <= most + spare]
+
+
+def next_steps(question):
+    """The tuples of the looks that are left and of the least position that is best, by the patterns.
+
+    The position is None for a pattern that settles the question.
+    """
+    return _best_steps(question, _one_more)
 
 
 def least_cost(question, rule):

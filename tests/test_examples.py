@@ -4,12 +4,15 @@ import doctest
 import os
 import unittest
 
+from leastlooks.asker import Asker
 from leastlooks.bounds import bounds, hub, most_rounds, numbers, rounds_tree, union_settles
 from leastlooks.costs import (
     is_total_paper, is_worst_paper, total_cost, total_paper, tree_total, tree_worst, worst_cost)
 from leastlooks.errors import BadFormula, BadText, NotAnswers
 from leastlooks.formulas import Formula, formula_of
+from leastlooks.guesses import Guesses
 from leastlooks.inside import inside, inside_degree, inside_looks
+from leastlooks.kinds import change_to, changed, kind_of, kind_size, kinds
 from leastlooks.lies import hard_bit, lie_looks, open_inputs, told_answer
 from leastlooks.looks import best_tree, is_play, looks, looks_left, needs_all, play, strategies
 from leastlooks.mixed import hard_weights, loose_blocks, mixed_looks, mixture_means, weights_mean
@@ -25,6 +28,7 @@ from leastlooks.trees import (
 from leastlooks.turning import (
     apart_blocks, block_numbers, is_sensitive, lean_blocks, meets_all, most_sensitive, sensitive_positions,
     sensitivity_numbers)
+from leastlooks.webs import connected, has_ring, is_web_question, pairs, rising_webs
 from tests.samples import same
 
 README = os.path.join(os.path.dirname(os.path.dirname(os.path.abspath(__file__))), "README.md")
@@ -175,10 +179,38 @@ class Examples(unittest.TestCase):
                     inside_looks(Question("0110"), [Question("1"), bit])],
                    ['10', 1])
 
-    def test_symmetry(self):
+    def test_symmetry_and_webs(self):
         two = Question.at_least(3, 2)
-        self.check([len(keeping_orders(two)), signed_sum(two), full_prime(two), full_prime(Question.parity(2))],
-                   [6, 2, 3, None])
+        self.check([len(keeping_orders(two)), signed_sum(two), full_prime(two), full_prime(Question.parity(2)), pairs(3),
+                    connected(3) == two],
+                   [6, 2, 3, None, [(0, 1), (0, 2), (1, 2)], True])
+        self.check([is_web_question(two, 3), str(has_ring(3)), len(connected(4)), [str(one) for one in rising_webs(3)]],
+                   [True, '00000001', 38, ['00000001', '00010111', '01111111']])
+
+    def test_kinds(self):
+        gate = Question("0010")
+        self.check([str(changed(gate, [1, 0], [0], 1)), change_to(gate, Question("0001")), kind_size(gate),
+                    [str(one) for one in kinds(2)]],
+                   ['0111', ((0, 1), (1,), 0), 8, ['0000', '0001', '0011', '0110']])
+        self.check(str(kind_of(gate)), '0001')
+
+    def test_guesses(self):
+        guesses = Guesses(2)
+        self.check([guesses.number(), guesses.tell(("looks", 2)), guesses.tell(("answer", "00", 0)), guesses.number(),
+                    str(guesses.least())],
+                   [16, True, True, 5, '0001'])
+        self.check([guesses.tell(("yes", 2)), guesses.tell(("degree", 1)), guesses.number(), guesses.answer("01"),
+                    guesses.undo(), guesses.facts()],
+                   [True, False, 1, 1, None, [('looks', 2), ('answer', '00', 0)]])
+
+    def test_asker(self):
+        asker = Asker(Question("01010011"))
+        self.check([asker.needed(), asker.best(), asker.reply(1), asker.look(1, 0), asker.needed(), asker.known_pattern,
+                    asker.reply(2), asker.look(2, 1)],
+                   [2, 0, 0, None, 2, '-0-', 1, None])
+        self.check([asker.tried(lambda held: (held.undo(), held.look(0, 0), held.known_pattern)[2]), asker.known_pattern,
+                    asker.order()],
+                   ['00-', '-01', [1, 2]])
 
     def test_the_readme(self):
         self.assertEqual(doctest.testfile(README, module_relative=False).failed, 0)

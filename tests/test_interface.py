@@ -38,13 +38,29 @@ FUNCTIONS = {
     "inside": """inside(outer, inners) inside_looks(outer, inners) inside_degree(outer, inners)
         inside_tree(outer, inners)""",
     "symmetry": "keeping_orders(question) signed_sum(question) full_prime(question)",
+    "webs": """pairs(nodes) is_web_question(question, nodes) connected(nodes) has_ring(nodes) rising_webs(nodes)""",
+    "kinds": """changed(question, order, block, flip) change_to(first, second) kind_of(question) kind_size(question)
+        kinds(many)""",
 }
 METHODS = {
     ("questions", "Question"): """settled(self, pattern) restricted(self, pattern) turned_at(self, block)
         reordered(self, order) with_idle(self, position) relevant(self) is_rising(self) dual(self) constant(many, answer)
         bit_at(many, position) at_least(many, count) parity(many) of(many, yes)""",
     ("formulas", "Formula"): "positions(self) question(self, many) seen(self, pattern) is_once(self)",
+    ("guesses", "Guesses"): """tell(self, fact) facts(self) undo(self) number(self) least(self) answer(self, text)""",
+    ("asker", "Asker"): """look(self, position, bit) undo(self) redo(self) order(self) answer(self) needed(self) best(self)
+        reply(self, position) tried(self, deed)""",
 }
+
+# The parameters that a class is called with, and what it is asked for by signs.
+CLASSES = {
+    ("questions", "Question"): ("(table)", """__str__ __eq__ __call__ __len__ __iter__ __contains__ __and__ __or__
+        __xor__ __invert__"""),
+    ("formulas", "Formula"): ("(text)", ""),
+    ("guesses", "Guesses"): ("(many)", "__len__ __contains__"),
+    ("asker", "Asker"): ("(question)", "__len__"),
+}
+PROPERTIES = {("questions", "Question"): "table many", ("asker", "Asker"): "about known_pattern"}
 
 
 def listed(text):
@@ -69,6 +85,16 @@ class Interface(unittest.TestCase):
             for method, parameters in listed(text):
                 self.assertIn(method, vars(one))
                 self.assertEqual(str(inspect.signature(getattr(one, method))), parameters)
-        for method in ("__str__", "__eq__", "__call__", "__len__", "__iter__", "__contains__", "__and__", "__or__",
-                       "__xor__", "__invert__", "table", "many"):
-            self.assertIn(method, vars(importlib.import_module("leastlooks.questions").Question))
+
+    def test_classes(self):
+        for (file, name), (parameters, methods) in CLASSES.items():
+            one = getattr(importlib.import_module("leastlooks." + file), name)
+            self.assertEqual(str(inspect.signature(one)), parameters)
+            for method in methods.split():
+                self.assertIn(method, vars(one))
+
+    def test_properties(self):
+        for (file, name), names in PROPERTIES.items():
+            one = getattr(importlib.import_module("leastlooks." + file), name)
+            for method in names.split():
+                self.assertIsInstance(vars(one)[method], property)

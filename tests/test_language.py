@@ -5,6 +5,7 @@ import builtins
 import os
 import re
 import unittest
+import warnings
 
 PACKAGE = os.path.join(os.path.dirname(os.path.dirname(os.path.abspath(__file__))), "leastlooks")
 CALLED = """len range enumerate zip min max sum abs sorted reversed int str bool list tuple dict set isinstance ord repr
@@ -14,6 +15,8 @@ DOUBLE = """init eq str len call iter contains and or xor invert lt le gt ge add
 BUILTIN = [name for name in vars(builtins) if name != "_"]
 # What is taken from Python's own library.
 LIBRARY = {"math": ["gcd", "lcm"]}
+# The methods of Python's own values that are called.
+METHODS = "append count extend find get index isalnum items join pop replace values".split()
 BARRED = """type typing enum Enum namedtuple dataclass overload contextmanager abstractmethod register mro elements open
     input law os exec eval compile id dir vars help exit quit globals locals""".split()
 
@@ -94,6 +97,69 @@ class Language(unittest.TestCase):
             for sign, right in zip(node.ops, node.comparators):
                 if isinstance(sign, (ast.Is, ast.IsNot)):
                     self.assertIsNone(right.value, place)
+
+    def test_tries(self):
+        for node, place in self.nodes(ast.Try):
+            self.assertEqual([len(node.handlers), len(node.orelse)], [0, 0], place)
+            for one in node.finalbody:
+                self.assertIsInstance(one, ast.Assign, place)
+                inner = [part for part in ast.walk(one) if not isinstance(part, (ast.Load, ast.Store))]
+                for part in inner:
+                    self.assertIsInstance(part, (ast.Assign, ast.Tuple, ast.Attribute, ast.Name), place)
+
+    def test_generators(self):
+        for name, tree in self.trees.items():
+            whole = [one for one in tree.body if isinstance(one, ast.FunctionDef)]
+            found = [node for node in ast.walk(tree) if isinstance(node, (ast.Yield, ast.YieldFrom))]
+            within = [node for one in whole for node in ast.walk(one) if isinstance(node, (ast.Yield, ast.YieldFrom))]
+            self.assertEqual(found, within, name)
+
+    def test_what_is_iterated_at_once(self):
+        for node, place in self.nodes(ast.Assign, ast.Return):
+            if isinstance(node.value, ast.Call):
+                called = node.value.func
+                name = called.id if isinstance(called, ast.Name) else getattr(called, "attr", "")
+                self.assertNotIn(name, ("zip", "enumerate", "reversed", "range", "items", "keys", "values"), place)
+
+    def test_calls(self):
+        for node, place in self.nodes(ast.Call):
+            self.assertIsInstance(node.func, (ast.Name, ast.Attribute), place)
+            if node.keywords:
+                # A set stands in `sorted` without keywords.
+                for one in node.args:
+                    self.assertNotIsInstance(one, (ast.Set, ast.SetComp), place)
+                    if isinstance(one, ast.Call) and isinstance(one.func, ast.Name):
+                        self.assertNotEqual(one.func.id, "set", place)
+
+    def test_attributes(self):
+        own = [node.name for node, _ in self.nodes(ast.FunctionDef)]
+        own += [node.attr for node, _ in self.nodes(ast.Attribute) if isinstance(node.ctx, ast.Store)]
+        for node, place in self.nodes(ast.Attribute):
+            self.assertIn(node.attr, own + METHODS, place)
+            if isinstance(node.ctx, ast.Store):
+                self.assertIsInstance(node.value, ast.Name, place)
+                self.assertNotIn(node.attr, "append extend items pop replace values".split(), place)
+
+    def test_lambdas(self):
+        rows = [place for _, place in self.nodes(ast.Lambda)]
+        self.assertEqual(sorted(set(rows)), sorted(rows))
+
+    def test_no_warnings(self):
+        for name in files():
+            with warnings.catch_warnings():
+                warnings.simplefilter("error")
+                compile(text_of(name), name, "exec")
+
+    def test_no_file_imports_itself_through_others(self):
+        above = {}
+        for name, tree in self.trees.items():
+            above[name] = {node.module.split(".")[1] + ".py" for node in tree.body
+                           if isinstance(node, ast.ImportFrom) and node.module not in LIBRARY}
+        while above:
+            free = [name for name in above if not above[name] & set(above)]
+            self.assertNotEqual(free, [], sorted(above))
+            for name in free:
+                del above[name]
 
     def test_classes(self):
         for node, place in self.nodes(ast.FunctionDef, ast.ClassDef):

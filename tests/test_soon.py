@@ -4,10 +4,12 @@ import time
 import unittest
 
 from leastlooks import (
-    bounds, costs, inside, lies, looks, mixed, settling, straight, sums, symmetry, trees, turning)
+    bounds, costs, inside, kinds, lies, looks, mixed, settling, straight, sums, symmetry, trees, turning, webs)
+from leastlooks.asker import Asker
 from leastlooks.errors import TooMany
+from leastlooks.guesses import Guesses
 from leastlooks.questions import Question
-from tests.plain import SIX
+from tests.plain import SIX, random_tables
 from tests.samples import raised
 
 TEXT = "010011"
@@ -103,10 +105,30 @@ def ask_symmetry(question):
         deed(question)
 
 
+def ask_webs(question):
+    for nodes in (2, 3, 4):
+        webs.is_web_question(question, nodes)
+        for one in webs.rising_webs(nodes):
+            looks.looks(one)
+
+
+def ask_asker(question):
+    asker = Asker(question)
+    while asker.best() is not None:
+        asker.look(asker.best(), asker.reply(asker.best()))
+        asker.tried(lambda held: [held.undo() for _ in range(len(held))])
+        asker.needed()
+    asker.answer()
+
+
 def ask_few(question):
     """What is told only of questions of few positions ends soon, too, by an error."""
     for deed in (mixed.mixed_looks, mixed.mixture, mixed.hard_weights):
         assert raised(deed, question) == (TooMany, (6,))
+    for deed in (kinds.kind_of, kinds.kind_size):
+        assert raised(deed, question) == (TooMany, (6,))
+    assert raised(kinds.change_to, question, question) == (TooMany, (6,))
+    kinds.changed(question, [5, 3, 4, 0, 2, 1], [0, 5], 1)
     for deed in (lies.told_answer, lies.lie_looks, lies.next_looks):
         assert raised(deed, question, 2, [(5, 1)] * 9) == (TooMany, (6,))
 
@@ -122,12 +144,19 @@ class Soon(unittest.TestCase):
     def test_questions_of_six_positions(self):
         questions = [Question(table) for table in SIX]
         for deed in (ask_settling, ask_turning, ask_sums, ask_trees, ask_looks, ask_bounds, ask_costs, ask_mixed,
-                     ask_inside, ask_symmetry, ask_few):
+                     ask_inside, ask_symmetry, ask_webs, ask_asker, ask_few):
             self.check(deed, questions)
 
     def test_many_lies(self):
         tables = ["01101001", "00010111", "01010011", "01111110"]
         self.check(lambda table: lies.next_looks(Question(table), 2, [(0, 1), (1, 0)] * 2), tables * 5)
+
+    def test_kinds_and_guesses(self):
+        self.check(lambda many: [kinds.kind_size(one) for one in kinds.kinds(many)], [3] * 5)
+        tables = random_tables(4, 9) + [Question.parity(4).table]
+        self.check(lambda table: kinds.change_to(Question(table), kinds.kind_of(~Question(table))), tables)
+        for word in ("yes", "looks", "settling", "sensitivity", "blocks", "degree"):
+            self.check(lambda count: Guesses(3).tell((word, count)), range(9))
 
     def test_sums_of_eight_rows_and_gains(self):
         # Turns at the first column go past many corners of this box, as V. Klee and G. J. Minty found.
